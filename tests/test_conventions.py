@@ -1,0 +1,102 @@
+"""The conventions ([0.2]): names, arguments, what is passed stays as it is, equal calls give equal results."""
+
+import copy
+import importlib
+import inspect
+import unittest
+
+from tests.checks import Checked
+
+WORLD = (3, (((0, 0, 0), 1), ((0, 1, 1), 1), ((1, 0, 1), 1), ((1, 1, 0), 1)))
+AMOUNT = (4, ((2, 8), (3, -3)))
+
+# Each function of the interface, with its parameters and arguments for which it raises no error.
+CALLS = {
+    "amounts": {
+        "is_amount": {"thing": AMOUNT}, "amount_of": {"number": 12}, "spread": {"counts": (1, 3)},
+        "plus": {"one": AMOUNT, "other": (1, ())}, "minus": {"one": AMOUNT, "other": (1, ())},
+        "is_below": {"one": AMOUNT, "other": (1, ())}, "times": {"amount": AMOUNT, "top": 3, "bottom": 2},
+        "sign_of": {"amount": AMOUNT}, "steps_of": {"amount": AMOUNT, "k": 7},
+    },
+    "worlds": {
+        "is_world": {"thing": WORLD}, "view_of": {"world": WORLD, "lot": (0, 2)}, "lot_amount": {"world": WORLD, "lot": (1,)},
+        "given_amount": {"world": WORLD, "lot": (1,), "given": (0,)},
+        "shared_amount": {"world": WORLD, "one": (1,), "other": (0,), "given": (2,)},
+        "judge_tells": {"world": WORLD, "one": (1,), "other": (0,)},
+        "tells_holds": {"world": WORLD, "one": (1,), "other": (0,), "thing": ("tells",)},
+        "judge_apart": {"world": WORLD, "one": (1,), "other": (0,), "given": (2,)},
+        "apart_holds": {"world": WORLD, "one": (1,), "other": (0,), "given": (2,), "thing": ("apart",)},
+    },
+}
+CHANGEABLE = [[], [1, [2]], {}, {"a": [1]}, ([1], {"b": 2}), ("tells", [0]), (1, [((0,), 1)]), [("tells",)], {0: ()}]
+
+
+def functions():
+    """Each function of the interface with its arguments."""
+    for module, calls in CALLS.items():
+        found = importlib.import_module("toldamounts." + module)
+        for name, arguments in calls.items():
+            yield getattr(found, name), arguments
+
+
+class TestConventions(Checked):
+
+    def test_each_function_is_defined_in_its_own_file_with_its_parameters(self):
+        for module, calls in CALLS.items():
+            found = importlib.import_module("toldamounts." + module)
+            for name, arguments in calls.items():
+                function = getattr(found, name)
+                self.assertEqual(function.__module__, "toldamounts." + module)
+                self.assertEqual(list(inspect.signature(function).parameters), list(arguments), name)
+                for parameter in inspect.signature(function).parameters.values():
+                    self.assertEqual(parameter.kind, inspect.Parameter.POSITIONAL_OR_KEYWORD)
+                    self.assertEqual(parameter.default, inspect.Parameter.empty)
+
+    def test_by_position_by_name_and_again(self):
+        for function, arguments in functions():
+            first = function(*arguments.values())
+            self.assert_same(function(**arguments), first)
+            self.assert_same(function(**dict(reversed(list(arguments.items())))), first)
+            self.assert_same(function(*arguments.values()), first)
+
+    def test_results_are_of_the_told_kinds(self):
+        def is_told(thing):
+            if isinstance(thing, tuple):
+                return all(is_told(part) for part in thing)
+            return thing is None or thing.__class__ in (int, str, bool)
+        for function, arguments in functions():
+            result = function(**arguments)
+            self.assertTrue(is_told(result), function)
+            name = function.__name__
+            if name.startswith(("is_", "are_")) or name.endswith(("_holds", "_hold")):
+                self.assertIn(result, (True, False))
+                self.assertIs(result.__class__, bool)
+
+    def test_nothing_that_is_passed_is_changed(self):
+        for function, arguments in functions():
+            for parameter in arguments:
+                for thing in CHANGEABLE:
+                    passed = dict(arguments)
+                    passed[parameter] = copy.deepcopy(thing)
+                    try:
+                        self.assert_false(function(**passed))
+                    except self.failureException:
+                        raise
+                    except Exception as error:
+                        self.assertEqual(error.__class__.__module__, "toldamounts.errors", error)
+                        self.assert_same(error.thing, thing)
+                    self.assert_same(passed[parameter], thing)
+
+    def test_a_call_with_an_error_changes_nothing_for_later_calls(self):
+        for function, arguments in functions():
+            before = function(**arguments)
+            for parameter in arguments:
+                try:
+                    function(**dict(arguments, **{parameter: [None]}))
+                except Exception as error:
+                    self.assertEqual(error.__class__.__module__, "toldamounts.errors")
+            self.assert_same(function(**arguments), before)
+
+
+if __name__ == "__main__":
+    unittest.main()

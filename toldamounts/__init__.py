@@ -1,0 +1,1 @@
+"""How much of hidden things is known, and what holds of it in all worlds."""
