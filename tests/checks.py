@@ -18,6 +18,8 @@ def same(one, other):
         if isinstance(one, tuple) != isinstance(other, tuple) or len(one) != len(other):
             return False
         return all(same(a, b) for a, b in zip(one, other))
+    if isinstance(one, dict) and isinstance(other, dict):
+        return len(one) == len(other) and all(key in other and same(one[key], other[key]) for key in one)
     return one == other
 
 

@@ -17,4 +17,32 @@ WORLDS = """
 [True, False]
 """
 
-ALL = {"amounts": AMOUNTS, "worlds": WORLDS}
+MAKINGWORLDS = r"""
+>>> from toldamounts.makingworlds import beside, grouped, led_world
+>>> COIN = (1, (((0,), 1), ((1,), 1)))
+>>> [beside(COIN, COIN), grouped((2, (((0, 5), 1), ((7, 5), 2))), ((0, 1), (1,))), led_world((2, (((0, 5), 1), ((7, 5), 2))), (1, 0))]
+[(1, (((0,), 1), ((1,), 1), ((2,), 1), ((3,), 1))), (2, (((0, 0), 1), ((1, 0), 2))), (2, (((5, 0), 1), ((5, 7), 2)))]
+"""
+
+FORMS = r"""
+>>> from toldamounts.forms import given_form, lots_of, plus_forms, shared_form, value_at, value_in
+>>> EVEN = (3, (((0, 0, 0), 1), ((0, 1, 1), 1), ((1, 0, 1), 1), ((1, 1, 0), 1)))
+>>> [lots_of(2), shared_form(2, (0,), (1,), ()), given_form(3, (2,), (0, 1)), plus_forms((2, (((0,), 1),)), (2, (((0,), -1), ((1,), 2)))), value_at((2, (((0,), 1), ((0, 1), -3))), (2, (1, 2, 1))), value_in(shared_form(3, (0,), (1,), (2,)), EVEN)]
+[((0,), (0, 1), (1,)), (2, (((0,), 1), ((0, 1), -1), ((1,), 1))), (3, (((0, 1), -1), ((0, 1, 2), 1))), (2, (((1,), 2),)), -5, (1, ((2, 1),))]
+"""
+
+BASICS = r"""
+>>> from toldamounts.basics import basic_form, basic_holds, basic_names, is_kept, judge_basic
+>>> [basic_names(2), basic_form(3, ('shared', 0, 2, (1,))), is_kept((2, (1, 1, 0))), is_kept((2, (1, 3, 1))), judge_basic((2, (((0, 1), 1), ((1,), -1))))[0], basic_holds((2, (((0,), 1), ((1,), -1))), ('table', (2, (0, 1, 1))))]
+[(('alone', 0), ('alone', 1), ('shared', 0, 1, ())), (3, (((0, 1), 1), ((0, 1, 2), -1), ((1,), -1), ((1, 2), 1))), True, False, 'sum', True]
+"""
+
+FORMTEXTS = r"""
+>>> from toldamounts.formtexts import read_form, text_of
+>>> [text_of((2, (((0,), 1), ((0, 1), -3)))), read_form('form 1'), read_form('form 2\n-1 1')]
+['form 2\n1 0\n-3 0 1', (1, ()), (2, (((1,), -1),))]
+"""
+
+ALL = {
+    "amounts": AMOUNTS, "worlds": WORLDS, "makingworlds": MAKINGWORLDS, "forms": FORMS, "basics": BASICS, "formtexts": FORMTEXTS,
+}

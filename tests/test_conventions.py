@@ -9,6 +9,9 @@ from tests.checks import Checked
 
 WORLD = (3, (((0, 0, 0), 1), ((0, 1, 1), 1), ((1, 0, 1), 1), ((1, 1, 0), 1)))
 AMOUNT = (4, ((2, 8), (3, -3)))
+FORM = (3, (((0,), 1), ((0, 1), -3), ((1, 2), 5)))
+TABLE = (3, (1, 2, 2, 2, 1, 2, 1))
+SUM = ("sum", 1, ((("alone", 0), 1),))
 
 # Each function of the interface, with its parameters and arguments for which it raises no error.
 CALLS = {
@@ -27,6 +30,21 @@ CALLS = {
         "judge_apart": {"world": WORLD, "one": (1,), "other": (0,), "given": (2,)},
         "apart_holds": {"world": WORLD, "one": (1,), "other": (0,), "given": (2,), "thing": ("apart",)},
     },
+    "makingworlds": {
+        "beside": {"one": WORLD, "other": WORLD}, "grouped": {"world": WORLD, "lots": ((0, 1), (2,), ())},
+        "led_world": {"world": WORLD, "renaming": (1, 2, 0)},
+    },
+    "forms": {
+        "is_form": {"thing": FORM}, "is_table": {"thing": TABLE}, "lots_of": {"n": 4}, "plus_forms": {"one": FORM, "other": FORM},
+        "times_form": {"form": FORM, "k": -4}, "led_form": {"form": FORM, "renaming": (1, 2, 0)},
+        "shared_form": {"n": 3, "one": (0,), "other": (1,), "given": (2,)}, "given_form": {"n": 3, "one": (0,), "given": (2,)},
+        "value_at": {"form": FORM, "table": TABLE}, "value_in": {"form": FORM, "world": WORLD},
+    },
+    "basics": {
+        "basic_names": {"n": 3}, "basic_form": {"n": 3, "name": ("shared", 0, 1, (2,))}, "is_kept": {"thing": TABLE},
+        "judge_basic": {"form": FORM}, "basic_holds": {"form": FORM, "thing": SUM},
+    },
+    "formtexts": {"text_of": {"form": FORM}, "read_form": {"text": "form 2\n1 0"}},
 }
 CHANGEABLE = [[], [1, [2]], {}, {"a": [1]}, ([1], {"b": 2}), ("tells", [0]), (1, [((0,), 1)]), [("tells",)], {0: ()}]
 
@@ -84,7 +102,7 @@ class TestConventions(Checked):
                         raise
                     except Exception as error:
                         self.assertEqual(error.__class__.__module__, "toldamounts.errors", error)
-                        self.assert_same(error.thing, thing)
+                        self.assert_same(vars(error), {"at": 0} if parameter == "text" else {"thing": thing})
                     self.assert_same(passed[parameter], thing)
 
     def test_a_call_with_an_error_changes_nothing_for_later_calls(self):

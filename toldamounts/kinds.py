@@ -29,3 +29,8 @@ def is_ascending(items):
 def is_lot(n, thing):
     """Whether any value is a lot of n things; it may be ()."""
     return are_integers_in(thing, 0, n - 1) and is_ascending(thing)
+
+
+def is_renaming(n, thing):
+    """Whether any value is a renaming of n things."""
+    return are_integers_in(thing, 0, n - 1) and sorted(thing) == list(range(n))

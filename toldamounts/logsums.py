@@ -4,8 +4,6 @@ from math import gcd, lcm
 
 from toldamounts.primes import prime_powers
 
-NOUGHT = (1, ())
-
 
 def amount_from(bottom, powers):
     """The amount of a dict of primes and their factors, divided by an integer above 0."""
