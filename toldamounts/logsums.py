@@ -14,20 +14,20 @@ def amount_from(bottom, powers):
     return bottom // divisor, tuple(sorted(parts))
 
 
-def add_log(powers, number, factor):
-    """Adds the logarithm of a number, times a factor, to a dict of primes and their factors."""
-    for prime, many in prime_powers(number).items():
-        powers[prime] = powers.get(prime, 0) + many * factor
+def logs_added(pairs):
+    """The factors of the primes in the sum of factor times log number over all pairs (factor, number), as a dict."""
+    powers = {}
+    for factor, number in pairs:
+        found = prime_powers(number)
+        for prime, many in found.items():
+            powers[prime] = powers.get(prime, 0) + many * factor
+    return powers
 
 
 def spread_of(counts):
     """The spread of counts."""
     total = sum(counts)
-    powers = {}
-    add_log(powers, total, total)
-    for count in counts:
-        add_log(powers, count, -count)
-    return amount_from(total, powers)
+    return amount_from(total, logs_added([(total, total)] + [(-count, count) for count in counts]))
 
 
 def combined(pairs):
