@@ -43,6 +43,34 @@ FORMTEXTS = r"""
 ['form 2\n1 0\n-3 0 1', (1, ()), (2, (((1,), -1),))]
 """
 
+SPACES = r"""
+>>> from toldamounts.spaces import beside_systems, is_system, rank_of, ranks_of
+>>> LINES = (2, 2, (((1, 0),), ((0, 1),), ((1, 1),), ()))
+>>> [rank_of(LINES, (0, 1)), rank_of(LINES, (0, 1, 2)), rank_of(LINES, (3,)), beside_systems((3, 1, (((1,),), (), (), ())), (3, 1, (((2,),), (), (), ((1,),))))]
+[2, 2, 0, (3, 2, (((1, 0), (0, 2)), (), (), ((0, 1),)))]
+"""
+
+TOLDLOTS = r"""
+>>> from toldamounts.toldlots import told_names, told_system, told_table
+>>> [len(told_names(4)), told_names(3)[-1], told_table(4, ('corner',)), told_system(5, ('hit', (1, 2))), told_table(3, ('three',))]
+[35, ('three',), (4, (1, 2, 3, 3, 3, 2, 3, 2, 1, 2, 3, 2, 1, 2, 1)), (5, 1, ((), ((1,),), ((1,),), ())), (3, (1, 2, 2, 2, 1, 2, 1))]
+"""
+
+SPACEFORMS = r"""
+>>> from toldamounts.spaceforms import breaking_system, four_form, judge_spaces, spaces_hold
+>>> [four_form(0, 1) == (4, (((0,), -1), ((0, 1), 1), ((0, 1, 2), -1), ((0, 1, 3), -1), ((0, 2), 1), ((0, 3), 1), ((1,), -1), ((1, 2), 1), ((1, 3), 1), ((2, 3), -1))), judge_spaces(four_form(0, 1))[0], spaces_hold((4, (((0,), 1), ((2,), -1))), ('broken', ('hit', (1, 2))))]
+[True, 'sum', True]
+"""
+
+CONDITIONS = r"""
+>>> from toldamounts.conditions import is_following, judge_under, least_positions, needless_positions, under_holds
+>>> KEY = (3, (((0,), -1), ((1,), 1)))
+>>> CIPHER = ((3, (((0,), -1), ((0, 2), 1), ((2,), -1))), (3, (((0, 1, 2), -1), ((1, 2), 1))))
+>>> [is_following(KEY, CIPHER), judge_under((3, (((0,), 1),)), ())[0], under_holds((3, (((0,), 1),)), (), ('sum', 1, ((('alone', 0), 1), (('shared', 0, 1, (2,)), 1), (('shared', 0, 2, ()), 1)), ())), under_holds(KEY, (), ('broken', ((('hit', (0,)), 2),))), least_positions(KEY, CIPHER), needless_positions(CIPHER)]
+[True, 'sum', True, True, (0, 1), ()]
+"""
+
 ALL = {
     "amounts": AMOUNTS, "worlds": WORLDS, "makingworlds": MAKINGWORLDS, "forms": FORMS, "basics": BASICS, "formtexts": FORMTEXTS,
+    "spaces": SPACES, "toldlots": TOLDLOTS, "spaceforms": SPACEFORMS, "conditions": CONDITIONS,
 }

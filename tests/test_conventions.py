@@ -12,6 +12,10 @@ AMOUNT = (4, ((2, 8), (3, -3)))
 FORM = (3, (((0,), 1), ((0, 1), -3), ((1, 2), 5)))
 TABLE = (3, (1, 2, 2, 2, 1, 2, 1))
 SUM = ("sum", 1, ((("alone", 0), 1),))
+SYSTEM = (2, 2, (((1, 0),), ((0, 1),), ((1, 1),), ()))
+FOUR = (4, (((0,), 1), ((0, 1), -3), ((1, 2, 3), 5)))
+CONDITIONS = ((3, (((0,), -1), ((0, 2), 1), ((2,), -1))), (3, (((0, 1, 2), -1), ((1, 2), 1))))
+KEY = (3, (((0,), -1), ((1,), 1)))
 
 # Each function of the interface, with its parameters and arguments for which it raises no error.
 CALLS = {
@@ -45,6 +49,22 @@ CALLS = {
         "judge_basic": {"form": FORM}, "basic_holds": {"form": FORM, "thing": SUM},
     },
     "formtexts": {"text_of": {"form": FORM}, "read_form": {"text": "form 2\n1 0"}},
+    "spaces": {
+        "is_system": {"thing": SYSTEM}, "rank_of": {"system": SYSTEM, "lot": (0, 2)}, "ranks_of": {"system": SYSTEM},
+        "beside_systems": {"one": SYSTEM, "other": SYSTEM},
+    },
+    "toldlots": {
+        "told_names": {"n": 4}, "told_table": {"n": 4, "name": ("wide", 2)}, "told_system": {"p": 3, "name": ("double", 0, 2)},
+    },
+    "spaceforms": {
+        "four_form": {"i": 1, "j": 3}, "judge_spaces": {"form": FOUR}, "spaces_hold": {"form": FOUR, "thing": SUM},
+        "breaking_system": {"p": 5, "form": FOUR},
+    },
+    "conditions": {
+        "judge_under": {"form": KEY, "conditions": CONDITIONS}, "under_holds": {"form": KEY, "conditions": CONDITIONS, "thing": SUM},
+        "is_following": {"form": KEY, "conditions": CONDITIONS}, "least_positions": {"form": KEY, "conditions": CONDITIONS},
+        "needless_positions": {"conditions": CONDITIONS},
+    },
 }
 CHANGEABLE = [[], [1, [2]], {}, {"a": [1]}, ([1], {"b": 2}), ("tells", [0]), (1, [((0,), 1)]), [("tells",)], {0: ()}]
 

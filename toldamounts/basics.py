@@ -2,9 +2,9 @@
 
 from toldamounts.errors import BadForm, BadName
 from toldamounts.forms import is_form, is_table, require_size
-from toldamounts.formsums import added, column_of, form_from, lots_within, numbers_by_lot, value_by_lot
-from toldamounts.kinds import are_integers_in, is_integer, is_lot, is_tuple_of
-from toldamounts.namedsums import are_named_terms, terms_from
+from toldamounts.formsums import column_of, form_from, lots_within, numbers_by_lot, value_by_lot
+from toldamounts.kinds import are_integers_in, is_lot, is_tuple_of
+from toldamounts.namedsums import are_sum_parts, is_named_sum, terms_from
 from toldamounts.views import joined
 from toldamounts.weighing import weigh
 
@@ -83,15 +83,8 @@ def basic_holds(form, thing):
     """Whether any value is a certificate of whether a form is a sum of basic forms."""
     require_judged_form(form)
     if is_tuple_of(thing, 3) and thing[0] == "sum":
-        return is_basic_sum(form, thing[1], thing[2])
+        _, m, terms = thing
+        return are_sum_parts(form[0], m, terms, is_basic_name) and is_named_sum(form, m, terms, form_named)
     if is_tuple_of(thing, 2) and thing[0] == "table":
         return is_kept(thing[1]) and thing[1][0] == form[0] and value_by_lot(form, numbers_by_lot(thing[1])) < 0
     return False
-
-
-def is_basic_sum(form, m, terms):
-    """Whether any values are an integer above 0 and basic forms that add up to so many times the form."""
-    n = form[0]
-    if not is_integer(m) or m < 1 or not are_named_terms(n, terms, is_basic_name):
-        return False
-    return added(n, [(k, form_named(n, name)) for name, k in terms]) == added(n, [(m, form)])

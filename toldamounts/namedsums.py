@@ -1,5 +1,6 @@
 """Sums of forms that are told by names."""
 
+from toldamounts.formsums import added
 from toldamounts.kinds import is_ascending, is_integer, is_tuple_of
 
 
@@ -20,3 +21,19 @@ def are_named_terms(n, thing, is_name):
     if not isinstance(thing, tuple) or not all([is_named_term(n, term, is_name) for term in thing]):
         return False
     return is_ascending([term[0] for term in thing])
+
+
+def are_sum_parts(n, m, terms, is_name):
+    """Whether any values are an integer above 0 and named terms for n things."""
+    return is_integer(m) and m > 0 and are_named_terms(n, terms, is_name)
+
+
+def named_pairs(n, terms, form_named):
+    """The pairs (integer, form) of named terms for n things, form_named giving the form of a name."""
+    return [(k, form_named(n, name)) for name, k in terms]
+
+
+def is_named_sum(form, m, terms, form_named):
+    """Whether the named forms, times their integers, add up to m times a form."""
+    n = form[0]
+    return added(n, named_pairs(n, terms, form_named)) == added(n, [(m, form)])
