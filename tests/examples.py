@@ -62,7 +62,7 @@ SPACEFORMS = r"""
 [True, 'sum', True]
 """
 
-CONDITIONS = r"""
+WRITTEN_OUT = r"""
 >>> from toldamounts.conditions import is_following, judge_under, least_positions, needless_positions, under_holds
 >>> KEY = (3, (((0,), -1), ((1,), 1)))
 >>> CIPHER = ((3, (((0,), -1), ((0, 2), 1), ((2,), -1))), (3, (((0, 1, 2), -1), ((1, 2), 1))))
@@ -70,7 +70,41 @@ CONDITIONS = r"""
 [True, 'sum', True, True, (0, 1), ()]
 """
 
+CONDITIONS = r"""
+>>> from toldamounts.conditions import is_following, judge_under, least_positions, needless_positions, under_holds
+>>> from toldamounts.statements import statement_form, told_statements
+>>> KEY = (3, (((0,), -1), ((1,), 1)))
+>>> CIPHER = (statement_form(3, ('apart', 0, 2, ())), statement_form(3, ('tells', (1, 2), 0)))
+>>> [statement_form(2, ('tells', (0,), 1)), is_following(KEY, CIPHER), judge_under((3, (((0,), 1),)), ())[0], under_holds((3, (((0,), 1),)), (), ('sum', 1, ((('alone', 0), 1), (('shared', 0, 1, (2,)), 1), (('shared', 0, 2, ()), 1)), ())), under_holds(KEY, (), ('broken', ((('hit', (0,)), 2),))), least_positions(KEY, CIPHER), needless_positions(CIPHER)]
+[(2, (((0,), 1), ((0, 1), -1))), True, 'sum', True, True, (0, 1), ()]
+>>> told_statements((statement_form(3, ('tells', (), 1)), statement_form(3, ('tells', (0,), 2))))
+(('apart', 0, 1, ()), ('apart', 0, 1, (2,)), ('apart', 1, 2, ()), ('apart', 1, 2, (0,)), ('tells', (), 1), ('tells', (0,), 1), ('tells', (0,), 2), ('tells', (0, 1), 2), ('tells', (0, 2), 1), ('tells', (2,), 1))
+"""
+
+COINS = r"""
+>>> from toldamounts.coins import breaking_world, coin_world, judge_table, table_holds, told_sum_table
+>>> [coin_world(((('hit', (0, 2)), 1),)), told_sum_table(3, ((('hit', (0,)), 2), (('three',), 1))), table_holds((3, (0, 0, 1, 1, 0, 1, 1)), ('parts', 1, ((('hit', (2,)), 1),))), judge_table((3, (1, 1, 1, 1, 1, 1, 0)))[0], breaking_world((3, (((0,), 1),)))]
+[(3, (((0, 0, 0), 1), ((1, 0, 1), 1))), (3, (3, 4, 4, 4, 1, 2, 1)), True, 'parts', None]
+>>> table_holds((3, (1, 1, 1, 1, 0, 0, 1)), ('below', ('alone', 0)))
+False
+"""
+
+GROUPS = r"""
+>>> from toldamounts.groups import judge_member, member_holds, members_of, then
+>>> [then(3, (1, 2, 0), (1, 0, 2)), members_of(3, ((1, 2, 0),)), judge_member(3, ((1, 2, 0),), (1, 0, 2)), member_holds(3, ((1, 2, 0),), (2, 0, 1), ('row', (0, 0)))]
+[(0, 2, 1), ((0, 1, 2), (1, 2, 0), (2, 0, 1)), ('closed', ((0, 1, 2), (1, 2, 0), (2, 0, 1))), True]
+"""
+
+GROUPINGS = r"""
+>>> from toldamounts.groupings import five_orders, group_amount, group_value, grouping_world, meet_of
+>>> from toldamounts.spaceforms import four_form
+>>> SWAPS = (3, ((1, 0, 2), (1, 2, 0)), (((1, 0, 2),), ((0, 2, 1),)))
+>>> [meet_of(SWAPS, (0, 1)), group_amount(SWAPS, (0,)), group_amount(SWAPS, (0, 1)), grouping_world(SWAPS)[1][0], group_value(five_orders(), four_form(0, 1))]
+[((0, 1, 2),), (1, ((3, 1),)), (1, ((2, 1), (3, 1))), ((0, 0), 1), (1, ((2, -4), (3, 1), (5, 1)))]
+"""
+
 ALL = {
     "amounts": AMOUNTS, "worlds": WORLDS, "makingworlds": MAKINGWORLDS, "forms": FORMS, "basics": BASICS, "formtexts": FORMTEXTS,
-    "spaces": SPACES, "toldlots": TOLDLOTS, "spaceforms": SPACEFORMS, "conditions": CONDITIONS,
+    "spaces": SPACES, "toldlots": TOLDLOTS, "spaceforms": SPACEFORMS, "written out": WRITTEN_OUT,
+    "conditions": CONDITIONS, "coins": COINS, "groups": GROUPS, "groupings": GROUPINGS,
 }

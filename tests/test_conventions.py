@@ -16,6 +16,9 @@ SYSTEM = (2, 2, (((1, 0),), ((0, 1),), ((1, 1),), ()))
 FOUR = (4, (((0,), 1), ((0, 1), -3), ((1, 2, 3), 5)))
 CONDITIONS = ((3, (((0,), -1), ((0, 2), 1), ((2,), -1))), (3, (((0, 1, 2), -1), ((1, 2), 1))))
 KEY = (3, (((0,), -1), ((1,), 1)))
+TOLD = ((("hit", (0, 2)), 1), (("three",), 2))
+MAKERS = ((1, 2, 0), (2, 0, 1))
+GROUPING = (3, ((1, 0, 2), (1, 2, 0)), (((1, 0, 2),), ((0, 2, 1),)))
 
 # Each function of the interface, with its parameters and arguments for which it raises no error.
 CALLS = {
@@ -64,6 +67,23 @@ CALLS = {
         "judge_under": {"form": KEY, "conditions": CONDITIONS}, "under_holds": {"form": KEY, "conditions": CONDITIONS, "thing": SUM},
         "is_following": {"form": KEY, "conditions": CONDITIONS}, "least_positions": {"form": KEY, "conditions": CONDITIONS},
         "needless_positions": {"conditions": CONDITIONS},
+    },
+    "statements": {
+        "statement_form": {"n": 4, "statement": ("tells", (0, 1), 3)}, "told_statements": {"conditions": CONDITIONS},
+    },
+    "coins": {
+        "coin_world": {"told": TOLD}, "told_sum_table": {"n": 3, "told": TOLD}, "judge_table": {"table": TABLE},
+        "table_holds": {"table": TABLE, "thing": ("below", ("alone", 0))}, "breaking_world": {"form": FORM},
+    },
+    "groups": {
+        "is_motion": {"m": 3, "thing": (0, 2, 1)}, "then": {"m": 3, "one": (0, 2, 1), "other": (1, 2, 0)},
+        "members_of": {"m": 3, "makers": MAKERS}, "judge_member": {"m": 3, "makers": MAKERS, "motion": (1, 0, 2)},
+        "member_holds": {"m": 3, "makers": MAKERS, "motion": (1, 0, 2), "thing": ("row", (0,))},
+    },
+    "groupings": {
+        "is_grouping": {"thing": GROUPING}, "meet_of": {"grouping": GROUPING, "lot": (0, 1)},
+        "group_amount": {"grouping": GROUPING, "lot": (0, 1)}, "group_value": {"grouping": GROUPING, "form": (2, (((1,), 3),))},
+        "grouping_world": {"grouping": GROUPING}, "five_orders": {},
     },
 }
 CHANGEABLE = [[], [1, [2]], {}, {"a": [1]}, ([1], {"b": 2}), ("tells", [0]), (1, [((0,), 1)]), [("tells",)], {0: ()}]
