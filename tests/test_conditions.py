@@ -312,6 +312,16 @@ class TestUnderHolds(JudgedUnder):
                     self.assert_false(under_holds(times_form(form, 2), conditions, ("sum", 1, terms, factors)))
                     self.assert_false(under_holds(form, conditions, ("sum", 2, terms, factors)))
 
+    def test_sums_with_factors_below_0(self):
+        # They add up, but a condition that is taken away shows nothing.
+        for n in (3, 4):
+            form = (n, (((0,), 1), ((1,), -2)))
+            for k in (1, 2, 10 ** 90):
+                self.assert_false(under_holds(times_form(form, -k), (form,), ("sum", 1, (), (-k,))))
+                self.assert_false(under_holds(form, (form, form), ("sum", 1, (), (k + 1, -k))))
+                self.assert_true(under_holds(times_form(form, k), (form,), ("sum", 1, (), (k,))))
+                self.assert_true(under_holds(form, (form, form), ("sum", k + 1, (), (k, 1))))
+
     def test_certificates_for_other_conditions(self):
         conditions = (CIPHER[0], times_form(CIPHER[1], 2))
         _, m, terms, (first, second) = judge_under(KEY, CIPHER)
