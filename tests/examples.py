@@ -103,8 +103,35 @@ GROUPINGS = r"""
 [((0, 1, 2),), (1, ((3, 1),)), (1, ((2, 1), (3, 1))), ((0, 0), 1), (1, ((2, -4), (3, 1), (5, 1)))]
 """
 
+COPIES = r"""
+>>> from toldamounts.copies import copies_hold, copy_form, told_paper
+>>> from toldamounts.spaceforms import four_form
+>>> from toldamounts.verdicts import drawn_holds, four_rows, judge_drawn, system_world
+>>> PAPER = (0, (2, 3), 1, ((('shared', 0, 1, (4,)), 1), (('shared', 0, 4, (1, 2, 3)), 1), (('shared', 0, 4, (2,)), 1), (('shared', 0, 4, (3,)), 1), (('shared', 1, 4, (0, 2, 3)), 1), (('shared', 1, 4, (2,)), 1), (('shared', 1, 4, (3,)), 1), (('shared', 2, 3, (0, 4)), 1), (('shared', 2, 3, (1, 4)), 1), (('shared', 2, 4, (0, 1, 3)), 1), (('shared', 3, 4, (0, 1)), 1)), ((('apart',), -3), (('same', ()), 1), (('same', (2,)), -2), (('same', (2, 3)), 3), (('same', (3,)), -2)))
+>>> [copies_hold(copy_form(0, 1), PAPER), judge_drawn(copy_form(0, 1))[0], judge_drawn(four_form(0, 1))[0], drawn_holds(four_form(0, 1), ('world', four_rows())), system_world((2, 1, (((1,),), (), (), ((1,),))))]
+[True, 'sum', 'world', True, (4, (((0, 0, 0, 0), 1), ((1, 0, 0, 1), 1)))]
+"""
+
+APARTLOTS = r"""
+>>> from toldamounts.apartlots import is_saying, judge_saying, odd_world, saying_holds, sayings_from
+>>> [is_saying(3, ((0,), (1, 2))), is_saying(3, ((1, 2), (0,))), odd_world(2, (0, 1)), judge_saying(3, (((0,), (1,)),), ((0,), (2,)))]
+[True, False, (2, (((0, 0), 1), ((1, 1), 1))), ('odd', (0, 2))]
+>>> STEPS = ((((0,), (1,)), ('told',)), (((0, 1), (2,)), ('told',)), (((0,), (1, 2)), ('more', 0, 1)))
+>>> [saying_holds(3, (((0,), (1,)), ((0, 1), (2,))), ((0,), (1, 2)), ('steps', STEPS)), sayings_from(3, (((0,), (1, 2)),))]
+[True, (((0,), (1,)), ((0,), (1, 2)), ((0,), (2,)))]
+"""
+
+SIDES_SEEN = r"""
+>>> from toldamounts.sides import cover_holds, is_points, judge_cover, keeps_weights, points_world, sizes_of
+>>> CORNER = ((0, 0, 0), (0, 0, 1), (0, 1, 0), (1, 0, 0))
+>>> SIDES = (2, (((0, 1), 1), ((0, 2), 1), ((1, 2), 1)))
+>>> [sizes_of(CORNER), keeps_weights(CORNER, SIDES), judge_cover(3, SIDES), judge_cover(3, (2, (((0, 1), 2), ((1, 2), 1)))), cover_holds(2, (1, (((0,), 1),)), ('short', 0)), points_world(((0, 5), (1, 5)))]
+[(3, (2, 3, 4, 3, 2, 3, 2)), True, ('cover',), ('short', 2), False, (2, (((0, 5), 1), ((1, 5), 1)))]
+"""
+
 ALL = {
     "amounts": AMOUNTS, "worlds": WORLDS, "makingworlds": MAKINGWORLDS, "forms": FORMS, "basics": BASICS, "formtexts": FORMTEXTS,
     "spaces": SPACES, "toldlots": TOLDLOTS, "spaceforms": SPACEFORMS, "written out": WRITTEN_OUT,
     "conditions": CONDITIONS, "coins": COINS, "groups": GROUPS, "groupings": GROUPINGS,
+    "copies and verdicts": COPIES, "apartlots": APARTLOTS, "sides": SIDES_SEEN,
 }

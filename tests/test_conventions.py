@@ -19,6 +19,11 @@ KEY = (3, (((0,), -1), ((1,), 1)))
 TOLD = ((("hit", (0, 2)), 1), (("three",), 2))
 MAKERS = ((1, 2, 0), (2, 0, 1))
 GROUPING = (3, ((1, 0, 2), (1, 2, 0)), (((1, 0, 2),), ((0, 2, 1),)))
+PAPER = (0, (2, 3), 1, ((("shared", 0, 1, (4,)), 1),), ((("apart",), -3), (("same", (2,)), -2)))
+SAYINGS = (((0,), (1,)), ((0, 1), (2,)))
+SAYING = ((0,), (1, 2))
+POINTS = ((0, 0, 0), (0, 0, 1), (0, 1, 0), (1, 0, 0))
+WEIGHTS = (2, (((0, 1), 1), ((0, 2), 1), ((1, 2), 1)))
 
 # Each function of the interface, with its parameters and arguments for which it raises no error.
 CALLS = {
@@ -84,6 +89,20 @@ CALLS = {
         "is_grouping": {"thing": GROUPING}, "meet_of": {"grouping": GROUPING, "lot": (0, 1)},
         "group_amount": {"grouping": GROUPING, "lot": (0, 1)}, "group_value": {"grouping": GROUPING, "form": (2, (((1,), 3),))},
         "grouping_world": {"grouping": GROUPING}, "five_orders": {},
+    },
+    "copies": {"copy_form": {"i": 2, "j": 0}, "copies_hold": {"form": FOUR, "thing": PAPER}, "told_paper": {"i": 3, "j": 1}},
+    "verdicts": {
+        "system_world": {"system": SYSTEM}, "four_rows": {}, "judge_drawn": {"form": FOUR}, "drawn_holds": {"form": FOUR, "thing": SUM},
+    },
+    "apartlots": {
+        "is_saying": {"n": 3, "thing": SAYING}, "odd_world": {"n": 3, "lot": (0, 2)},
+        "judge_saying": {"n": 3, "sayings": SAYINGS, "saying": SAYING},
+        "saying_holds": {"n": 3, "sayings": SAYINGS, "saying": SAYING, "thing": ("odd", (0, 2))}, "sayings_from": {"n": 3, "sayings": SAYINGS},
+    },
+    "sides": {
+        "is_points": {"thing": POINTS}, "sizes_of": {"points": POINTS}, "keeps_weights": {"points": POINTS, "weights": WEIGHTS},
+        "judge_cover": {"n": 3, "weights": WEIGHTS}, "cover_holds": {"n": 3, "weights": WEIGHTS, "thing": ("cover",)},
+        "points_world": {"points": POINTS},
     },
 }
 CHANGEABLE = [[], [1, [2]], {}, {"a": [1]}, ([1], {"b": 2}), ("tells", [0]), (1, [((0,), 1)]), [("tells",)], {0: ()}]

@@ -31,6 +31,11 @@ def is_lot(n, thing):
     return are_integers_in(thing, 0, n - 1) and is_ascending(thing)
 
 
+def is_within(one, other):
+    """Whether a lot has no other things than another one."""
+    return all([thing in other for thing in one])
+
+
 def is_renaming(n, thing):
     """Whether any value is a renaming of n things."""
     return are_integers_in(thing, 0, n - 1) and sorted(thing) == list(range(n))
