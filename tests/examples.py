@@ -129,9 +129,48 @@ SIDES_SEEN = r"""
 [(3, (2, 3, 4, 3, 2, 3, 2)), True, ('cover',), ('short', 2), False, (2, (((0, 5), 1), ((1, 5), 1)))]
 """
 
+JOINS = r"""
+>>> from toldamounts.joins import answer_of, is_question, judge_rows, keeps_keys, rows_hold
+>>> ROUND = (((0, 1), (0, 2), (1, 2)), ())
+>>> KEYED = (((0, 1), (1, 2)), (((1,), 2),))
+>>> PAIRS = ((0, 0), (0, 1), (1, 0))
+>>> [answer_of(ROUND, (PAIRS, PAIRS, PAIRS)), keeps_keys(KEYED, (PAIRS, PAIRS)), judge_rows(ROUND, 2, (1, 1, 1))[0], judge_rows(ROUND, 2, (1, 1, 0))[0], judge_rows(KEYED, 1, (1, 0))[0]]
+[((0, 0, 0), (0, 0, 1), (0, 1, 0), (1, 0, 0)), False, 'always', 'store', 'always']
+>>> rows_hold((((0, 1), (1, 2)), ()), 1, (1, 0), ('store', (((0, 0),), ((0, 0), (0, 1)))))
+True
+"""
+
+SECRETS = r"""
+>>> from toldamounts.commonparts import blocks_of, common_amount, judge_common
+>>> PARTS = (2, (((0, 0), 1), ((0, 1), 1), ((1, 0), 1), ((1, 1), 1), ((2, 2), 4)))
+>>> [blocks_of(PARTS, (0,), (1,)), common_amount(PARTS, (0,), (1,)), judge_common(PARTS, (0,), (1,)), judge_common((2, (((0, 0), 2), ((0, 1), 1), ((1, 1), 1))), (0,), (1,))[0]]
+[((((0,), (1,)), ((0,), (1,))), (((2,),), ((2,),))), (1, ((2, 1),)), ('equal',), 'unequal']
+>>> from toldamounts.secrets import judge_dealing, judge_shares, opens, plain_dealing, shares_hold
+>>> BOTH = (2, ((0, 1),))
+>>> ROW = (4, ((0, 1), (1, 2), (2, 3)))
+>>> [plain_dealing(BOTH), opens(ROW, (0, 2)), judge_dealing(BOTH, plain_dealing(BOTH)), judge_shares(BOTH, (1, 0), 1)[0], judge_shares(ROW, (0, 1, 1, 0), 3)[0], judge_shares(ROW, (1, 0, 0, 1), 3)[0]]
+[(3, (((0, 0, 0), 1), ((0, 1, 1), 1), ((1, 0, 1), 1), ((1, 1, 0), 1))), False, ('right',), 'sum', 'sum', 'table']
+"""
+
+DESKS = r"""
+>>> from toldamounts.desks import Desk, read_desk
+>>> from toldamounts.statements import statement_form
+>>> KEY = (3, (((0,), -1), ((1,), 1)))
+>>> desk = Desk(3)
+>>> [desk.put(statement_form(3, ('apart', 0, 2, ()))), desk.put(statement_form(3, ('tells', (1, 2), 0))), desk.claim(KEY), desk.undoable(), desk.would(KEY)[0], desk.text()]
+[None, None, None, 3, 'sum', 'desk 3\ncondition\n-1 0\n1 0 2\n-1 2\ncondition\n-1 0 1 2\n1 1 2\nclaim\n-1 0\n1 1']
+>>> [desk.undo(), desk.redoable(), desk.drop(0), desk.redoable(), len(desk.conditions()), read_desk('desk 4').size()]
+[None, 1, None, 0, 1, 4]
+>>> read_desk('desk 3\nclaim\n-1 0')
+Traceback (most recent call last):
+    ...
+toldamounts.errors.BadText: 2
+"""
+
 ALL = {
     "amounts": AMOUNTS, "worlds": WORLDS, "makingworlds": MAKINGWORLDS, "forms": FORMS, "basics": BASICS, "formtexts": FORMTEXTS,
     "spaces": SPACES, "toldlots": TOLDLOTS, "spaceforms": SPACEFORMS, "written out": WRITTEN_OUT,
     "conditions": CONDITIONS, "coins": COINS, "groups": GROUPS, "groupings": GROUPINGS,
     "copies and verdicts": COPIES, "apartlots": APARTLOTS, "sides": SIDES_SEEN,
+    "joins": JOINS, "commonparts and secrets": SECRETS, "desks": DESKS,
 }

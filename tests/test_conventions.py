@@ -3,9 +3,12 @@
 import copy
 import importlib
 import inspect
+import pathlib
 import unittest
 
 from tests.checks import Checked
+from toldamounts import errors
+from toldamounts.desks import Desk
 
 WORLD = (3, (((0, 0, 0), 1), ((0, 1, 1), 1), ((1, 0, 1), 1), ((1, 1, 0), 1)))
 AMOUNT = (4, ((2, 8), (3, -3)))
@@ -24,8 +27,11 @@ SAYINGS = (((0,), (1,)), ((0, 1), (2,)))
 SAYING = ((0,), (1, 2))
 POINTS = ((0, 0, 0), (0, 0, 1), (0, 1, 0), (1, 0, 0))
 WEIGHTS = (2, (((0, 1), 1), ((0, 2), 1), ((1, 2), 1)))
+QUESTION = (((0, 1), (1, 2)), (((1,), 2),))
+STORE = (((0, 0), (0, 1), (1, 0)), ((0, 5), (1, 5)))
+STRUCTURE = (2, ((0, 1),))
 
-# Each function of the interface, with its parameters and arguments for which it raises no error.
+# Each function of the interface, with its parameters and arguments for which it raises no error; desks are tested by themselves.
 CALLS = {
     "amounts": {
         "is_amount": {"thing": AMOUNT}, "amount_of": {"number": 12}, "spread": {"counts": (1, 3)},
@@ -104,6 +110,22 @@ CALLS = {
         "judge_cover": {"n": 3, "weights": WEIGHTS}, "cover_holds": {"n": 3, "weights": WEIGHTS, "thing": ("cover",)},
         "points_world": {"points": POINTS},
     },
+    "joins": {
+        "is_question": {"thing": QUESTION}, "is_store": {"question": QUESTION, "thing": STORE}, "keeps_keys": {"question": QUESTION, "store": STORE},
+        "answer_of": {"question": QUESTION, "store": STORE}, "judge_rows": {"question": QUESTION, "m": 1, "factors": (1, 0)},
+        "rows_hold": {"question": QUESTION, "m": 1, "factors": (1, 0), "thing": ("store", STORE)},
+    },
+    "commonparts": {
+        "blocks_of": {"world": WORLD, "one": (0,), "other": (1, 2)}, "common_amount": {"world": WORLD, "one": (0,), "other": (1, 2)},
+        "judge_common": {"world": WORLD, "one": (0,), "other": (1, 2)},
+        "common_holds": {"world": WORLD, "one": (0,), "other": (1, 2), "thing": ("equal",)},
+    },
+    "secrets": {
+        "is_structure": {"thing": STRUCTURE}, "opens": {"structure": STRUCTURE, "lot": (0, 1)}, "plain_dealing": {"structure": STRUCTURE},
+        "judge_dealing": {"structure": STRUCTURE, "world": WORLD}, "dealing_holds": {"structure": STRUCTURE, "world": WORLD, "thing": ("right",)},
+        "judge_shares": {"structure": STRUCTURE, "weights": (1, 2), "total": 3},
+        "shares_hold": {"structure": STRUCTURE, "weights": (1, 2), "total": 3, "thing": ("sum", 1, ((("secret",), 1),))},
+    },
 }
 CHANGEABLE = [[], [1, [2]], {}, {"a": [1]}, ([1], {"b": 2}), ("tells", [0]), (1, [((0,), 1)]), [("tells",)], {0: ()}]
 
@@ -173,6 +195,32 @@ class TestConventions(Checked):
                 except Exception as error:
                     self.assertEqual(error.__class__.__module__, "toldamounts.errors")
             self.assert_same(function(**arguments), before)
+
+    def test_desks_are_no_other_things(self):
+        for function, arguments in functions():
+            for parameter in arguments:
+                desk = Desk(3)
+                desk.put(FORM)
+                for thing in (desk, (desk,), [desk], (3, desk), (3, (desk,)), ("sum", desk, (desk,)), ("tells", {1: desk}), (desk, desk)):
+                    try:
+                        self.assert_false(function(**dict(arguments, **{parameter: thing})))
+                    except self.failureException:
+                        raise
+                    except Exception as error:
+                        self.assertEqual(error.__class__.__module__, "toldamounts.errors", error)
+                        if parameter == "text":
+                            self.assertEqual(vars(error), {"at": 0})
+                        else:
+                            self.assertEqual(list(vars(error)), ["thing"])
+                            self.assertIs(error.thing, thing)
+                self.assert_same((desk.size(), desk.conditions(), desk.claims(), desk.undoable()), (3, (FORM,), (), 1))
+
+    def test_all_modules_of_the_interface_are_called(self):
+        files = [path.stem for path in pathlib.Path(errors.__file__).parent.glob("*.py")]
+        for module in list(CALLS) + ["errors", "desks"]:
+            self.assertIn(module, files)
+        self.assertEqual(len(CALLS), 21)
+        self.assertEqual(sum(len(calls) for calls in CALLS.values()), 107)
 
 
 if __name__ == "__main__":

@@ -27,6 +27,11 @@ ITERATED_AT_ONCE = {"zip", "enumerate", "reversed", "range", "items", "keys", "v
 TAKERS = {"list", "tuple", "dict", "sorted", "sum", "any", "all", "enumerate", "zip", "min", "max", "len"}
 
 
+# The methods of the package's own classes; none has the name of a method of a builtin value.
+OWN_METHODS = {method.name for tree in TREES.values() for node in tree.body if isinstance(node, ast.ClassDef)
+               for method in node.body if isinstance(method, ast.FunctionDef)}
+
+
 def defined(tree):
     """The names of the functions and classes that a file defines."""
     return [node.name for node in tree.body if isinstance(node, (ast.FunctionDef, ast.ClassDef))]
@@ -141,7 +146,16 @@ class TestLanguage(unittest.TestCase):
                 if isinstance(node, ast.Name) and node.id in BUILT_IN:
                     self.assertIn(node.id, BUILTINS, name)
                 if isinstance(node, ast.Call) and isinstance(node.func, ast.Attribute):
-                    self.assertIn(node.func.attr, METHODS, name)
+                    self.assertIn(node.func.attr, METHODS + sorted(OWN_METHODS), name)
+
+    def test_own_methods_and_attributes(self):
+        of_builtins = {word for kind in (str, int, list, dict, set, bytes, tuple) for word in dir(kind)} - {"__init__"}
+        self.assertEqual(OWN_METHODS & of_builtins, set())
+        for name, tree in TREES.items():
+            for node in ast.walk(tree):
+                if isinstance(node, ast.Attribute) and isinstance(node.ctx, ast.Store):
+                    self.assertNotIn(node.attr, OWN_METHODS | of_builtins, name)
+                    self.assertIsInstance(node.value, ast.Name)
 
     def test_statements_and_values(self):
         for name, tree in TREES.items():
