@@ -342,6 +342,10 @@ class TestSayingHolds(Checked):
             self.assert_false(saying_holds(2, (((0,), (1,)),), ((0,), (1,)), thing), thing)
         self.assert_true(saying_holds(2, (((0,), (1,)),), ((0,), (1,)), ("steps", ((((0,), (1,)), ("told",)),))))
         self.assert_true(saying_holds(2, (), ((0,), (1,)), ("odd", (0, 1))))
+        for word in ("Odd", "even", "steps", "told", None, 0, ("odd",), ["odd"], True):
+            self.assert_false(saying_holds(2, (), ((0,), (1,)), (word, (0, 1))))
+        for word in ("Steps", "odd", "told", None, 0, ("steps",)):
+            self.assert_false(saying_holds(2, (((0,), (1,)),), ((0,), (1,)), (word, ((((0,), (1,)), ("told",)),))))
 
     def test_all_pairs_of_two_things(self):
         for lots in combinations(lots_of_things(2), 2):

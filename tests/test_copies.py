@@ -258,6 +258,12 @@ class TestPapers(Checked):
         self.assert_false(copies_hold((4, ()), (4, (0,), 1, (), ())))
         for name in [("four", 0, 1), ("copy", 0, 1), ("shared", 0, 5, ()), ("alone", 5), ("apart",), ("same", ())]:
             self.assert_false(copies_hold(form, (c, over, m, tuple(sorted(terms + ((name, 1),))), equals)))
+        # Names that add nothing must not stand there with the integer 0.
+        for name in [("alone", 0), ("shared", 0, 1, ())]:
+            self.assert_false(copies_hold(form, (c, over, m, tuple(sorted(terms + ((name, 0),))), equals)))
+        for over_two, name in [((2, 3), ("apart",)), ((2,), ("same", ())), ((2,), ("same", (2,)))]:
+            self.assert_false(copies_hold((4, ()), (c, over_two, 1, (), ((name, 0),))))
+            self.assert_false(copies_hold((4, ()), (c, over_two, 1, (), ((name, False),))))
         for name in [("same", (1,)), ("same", (4,)), ("same", (0,)), ("same",), ("apart", ()), ("same", (3, 2)), ("alone", 0), ("same", [2])]:
             self.assert_false(copies_hold(form, (c, over, m, terms, equals + ((name, 1),))))
 

@@ -392,6 +392,34 @@ class TestShares(Checked):
                 self.assertIs(shares_hold(structure, weights, total, thing), wanted, thing)
         self.assertGreater(min(right.values()), 2, right)
 
+    def test_names_that_are_none(self):
+        # Some of them would add nothing to a sum, and yet must not stand in it.
+        for structure, weights, total in [(BOTH, (1, 0), 1), (EITHER, (1, 1), 2), (ROW, (0, 1, 1, 0), 3)]:
+            _, m, terms = judge_shares(structure, weights, total)
+            n = structure[0]
+            for name in [("alone", 0, (0,)), ("alone", 1, (0, 1)), ("shared", 0, 1, (0,)), ("shared", 0, 1, (1,)), ("shared", 0, 1, (0, 1)),
+                         ("shared", 1, 0, ()), ("shared", 0, 0, ()), ("alone", n, ()), ("alone", 0, (n,)), ("shared", 0, n, ()), ("alone", -1, ()),
+                         ("alone", False, ()), ("alone", 0), ("secret", ()), ("shared", 0, 1), ("Alone", 0, ()), ("alone", 0, (), ())]:
+                self.assert_false(shares_hold(structure, weights, total, ("sum", m, terms + ((name, 1),))), name)
+                self.assert_false(shares_hold(structure, weights, total, ("sum", m, ((name, 1),) + terms)), name)
+                self.assert_false(shares_hold(structure, weights, total, ("sum", m, tuple(sorted(terms + ((name, 1),))))), name)
+                self.assert_false(shares_hold(structure, (0,) * n, 0, ("sum", 1, ((name, 1),))), name)
+                self.assert_false(shares_hold(structure, (0,) * n, 0, ("sum", 1, ((name, 2), (("secret",), 1)))), name)
+
+            # Nor do they take away what others add.
+            alone = [(("alone", 0, ()), 1), (("alone", 0, (0,)), 1)]
+            self.assert_false(shares_hold(structure, (0,) * structure[0], 0, ("sum", 1, tuple(alone))))
+        both = [("alone", 0, ()), ("alone", 0, (1,)), ("alone", 1, ()), ("secret",), ("shared", 0, 1, (0,))]
+        self.assert_false(shares_hold(BOTH, (0, 0), 0, ("sum", 1, tuple((name, 1) for name in both))))
+
+    def test_tables_of_other_numbers_of_things(self):
+        self.assert_true(shares_hold(BOTH, (1, 0), 2, ("table", 1, (2, (1, 2, 1)))))
+        self.assert_false(shares_hold(BOTH, (1, 0), 2, ("table", 1, (3, (1, 2, 2, 1, 1, 1, 1)))))
+        for n in (1, 3, 4, 5):
+            for k in (1, 2):
+                numbers = tuple(k * min(len(lot), 2) for lot in all_lots(n))
+                self.assert_false(shares_hold(BOTH, (1, 0), 20, ("table", 1, (n, numbers))))
+
     def test_multiples(self):
         for structure, weights, total in [(BOTH, (1, 0), 1), (ROW, (0, 1, 1, 0), 3)]:
             _, m, terms = judge_shares(structure, weights, total)

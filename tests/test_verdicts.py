@@ -308,6 +308,8 @@ class TestDrawnHolds(Checked):
             for form in [below, (4, ()), beyond(2), four_form(0, 1)]:
                 self.assert_false(drawn_holds(form, thing), thing)
         self.assert_true(drawn_holds(below, ("world", ROWS)))
+        for word in ("worlds", "World", "sum", "open", None, 0, ("world",), ["world"], True):
+            self.assert_false(drawn_holds(below, (word, ROWS)))
         self.assert_true(drawn_holds(beyond(2), OPEN))
         for form in [below, (4, ()), four_form(0, 1)]:
             self.assert_false(drawn_holds(form, OPEN))
